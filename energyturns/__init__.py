@@ -1,0 +1,1 @@
+"""Turns by energy: who acts next in a dungeon of fast and slow actors."""
