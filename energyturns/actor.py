@@ -15,6 +15,15 @@ class Actor:
         self.gained = 0
         self.spent = 0
 
+    def twin(self):
+        """One like this that shares nothing with it, so that what is to come can be tried out."""
+        other = Actor(self.number, self.base, self.energy)
+        other.effects = list(self.effects)
+        other.acted = self.acted
+        other.gained = self.gained
+        other.spent = self.spent
+        return other
+
     def speed(self):
         total = self.base + sum([more for more, lasts in self.effects])
         return max(0, min(GREATEST_SPEED, total))
@@ -34,6 +43,16 @@ class Actor:
             spans.append(-(self.energy // speed))
         return min(spans)
 
+    def ticks_until_ready(self):
+        """How many ticks it takes if nothing but time happens to it, whoever else is ready meanwhile."""
+        ahead = self.twin()
+        went = 0
+        while not ahead.is_ready():
+            span = ahead.steady_ticks()
+            ahead.gain(span)
+            went += span
+        return went
+
     def gain(self, ticks):
         """Let so many ticks go by at once; no effect may end before the last of them."""
         gained = self.speed() * ticks
@@ -41,7 +60,10 @@ class Actor:
         self.gained += gained
         self.effects = [(more, lasts - ticks) for more, lasts in self.effects if lasts > ticks]
 
+    def spend(self, energy):
+        self.energy -= energy
+        self.spent += energy
+
     def act(self, cost):
-        self.energy -= cost
-        self.spent += cost
+        self.spend(cost)
         self.acted += 1

@@ -11,6 +11,14 @@ class Crowd:
         self.came = 0
         self.actors = {}
 
+    def twin(self):
+        """A crowd like this that shares nothing with it, so that what is to come can be tried out."""
+        other = Crowd()
+        other.ticks = self.ticks
+        other.came = self.came
+        other.actors = dict([(number, actor.twin()) for number, actor in self.actors.items()])
+        return other
+
     def welcome(self, speed, energy):
         # Counting all who ever came keeps a number from being given again.
         self.came += 1
@@ -55,3 +63,18 @@ class Crowd:
             self.go_by(span)
             went += span
         return went
+
+    def turns_to_come(self, many, costs):
+        """So many turns, each a number and the ticks until then; the costs stand under the actors' numbers.
+
+        Somebody must be there.
+        """
+        ahead = self.twin()
+        turns = []
+        went = 0
+        while len(turns) < many:
+            went += ahead.pass_until_ready()
+            number = ahead.turn()
+            ahead.actors[number].act(costs[number])
+            turns.append((number, went))
+        return turns

@@ -1,5 +1,7 @@
 """What the tests share: the calls by their names, and a plain model that lets each tick go by singly."""
 
+import copy
+
 from energyturns.dungeon import answers
 
 
@@ -35,6 +37,34 @@ def speed(actor, base):
     return [7, actor, base]
 
 
+def push(actor, energy):
+    return [8, actor, energy]
+
+
+def queue():
+    return [9]
+
+
+def look(actor):
+    return [10, actor]
+
+
+def when(actor):
+    return [11, actor]
+
+
+def turns(many, costs):
+    return [12, many, len(costs)] + list(costs)
+
+
+def book(actor):
+    return [13, actor]
+
+
+def time():
+    return [14]
+
+
 def flat(calls):
     return [number for call in calls for number in call]
 
@@ -64,11 +94,22 @@ def last(*calls):
     return ask(*calls)[-1]
 
 
+BOUNDS = {
+    "actor": (1, 400), "speed": (1, 1000), "energy": (-10 ** 6, -1), "most": (1, 10 ** 6), "cost": (1, 10 ** 6),
+    "more": (-5000, 5000), "ticks": (1, 10 ** 6), "less": (1, 10 ** 6), "many": (1, 100),
+}
+WORDS = [
+    "speed energy", "actor", "most", "", "actor cost", "actor more ticks", "actor", "actor speed", "actor less", "",
+    "actor", "actor", "many", "actor", "",
+]
+
+
 class Model:
     """Word for word what the document says, however slow: used on short waits only."""
 
     def __init__(self):
         self.given = 0
+        self.gone_by = 0
         self.there = {}
 
     def speed_of(self, number):
@@ -91,8 +132,10 @@ class Model:
         return best
 
     def one_tick(self):
+        self.gone_by += 1
         for number, one in self.there.items():
             one["energy"] += self.speed_of(number)
+            one["gained"] += self.speed_of(number)
             kept = []
             for more, left in one["effects"]:
                 if left - 1 > 0:
@@ -106,16 +149,50 @@ class Model:
             went += 1
         return [0, went, self.first()]
 
+    def act(self, number, cost):
+        one = self.there[number]
+        one["energy"] -= cost
+        one["spent"] += cost
+        one["acted"] += 1
+
+    def queue(self):
+        """The first one, then the first one of those that are left, and so on."""
+        other = copy.deepcopy(self)
+        numbers = []
+        while other.first():
+            numbers.append(other.first())
+            del other.there[other.first()]
+        return numbers
+
+    def when(self, number):
+        other = copy.deepcopy(self)
+        went = 0
+        while other.there[number]["energy"] < 0:
+            other.one_tick()
+            went += 1
+        return went
+
+    def turns(self, many, costs):
+        other = copy.deepcopy(self)
+        told = []
+        went = 0
+        while len(told) < 2 * many and other.there:
+            went += other.ticks(-1)[1]
+            whose = other.first()
+            told += [whose, went]
+            other.act(whose, costs[sorted(other.there).index(whose)])
+        return told
+
     def answer(self, call):
-        place, numbers = call[0], call[1:]
-        bounds = {
-            "actor": (1, 400), "speed": (1, 1000), "energy": (-10 ** 6, -1), "most": (1, 10 ** 6),
-            "cost": (1, 10 ** 6), "more": (-5000, 5000), "ticks": (1, 10 ** 6),
-        }
-        words = ["speed energy", "actor", "most", "", "actor cost", "actor more ticks", "actor", "actor speed"]
-        for word, number in zip(words[place].split(), numbers, strict=True):
-            if not bounds[word][0] <= number <= bounds[word][1]:
+        place, numbers, costs = call[0], call[1:], []
+        if place == 12:
+            numbers, costs = call[1:2], call[3:]
+        told = list(zip(WORDS[place].split(), numbers, strict=True)) + [("cost", cost) for cost in costs]
+        for word, number in told:
+            if not BOUNDS[word][0] <= number <= BOUNDS[word][1]:
                 return [-1]
+        if place == 12:
+            return [0] + self.turns(numbers[0], costs) if len(costs) == len(self.there) else [-7]
         return self.accept(place, numbers)
 
     def accept(self, place, numbers):
@@ -123,14 +200,21 @@ class Model:
             if len(self.there) == 16:
                 return [-4]
             self.given += 1
-            self.there[self.given] = {"base": numbers[0], "energy": numbers[1], "effects": []}
+            self.there[self.given] = {
+                "base": numbers[0], "energy": numbers[1], "effects": [], "acted": 0, "gained": 0, "spent": 0}
             return [0, self.given]
         if place == 2:
             return [-5] if self.first() else self.ticks(numbers[0])
         if place == 3:
             return self.ticks(-1) if self.there else [-3]
+        if place == 9:
+            return [0] + self.queue()
+        if place == 14:
+            return [0, self.gone_by, self.given, len(self.there), self.first()]
         if numbers[0] not in self.there:
             return [-3]
+        if place in (10, 11, 13):
+            return self.tell_of_one(place, numbers[0])
         return self.accept_for_one(place, numbers)
 
     def accept_for_one(self, place, numbers):
@@ -142,7 +226,11 @@ class Model:
         if place == 4:
             if self.first() != number:
                 return [-6]
+            self.act(number, numbers[1])
+            return [0, one["energy"]]
+        if place == 8:
             one["energy"] -= numbers[1]
+            one["spent"] += numbers[1]
             return [0, one["energy"]]
         if place == 5:
             if len(one["effects"]) == 8:
@@ -153,3 +241,11 @@ class Model:
         if place == 7:
             one["base"] = numbers[1]
         return [0, self.speed_of(number)]
+
+    def tell_of_one(self, place, number):
+        one = self.there[number]
+        if place == 10:
+            return [0, one["energy"], one["base"], self.speed_of(number)] + flat(one["effects"])
+        if place == 11:
+            return [0, self.when(number)]
+        return [0, one["acted"], one["gained"], one["spent"]]

@@ -2,7 +2,8 @@
 
 import unittest
 
-from tests.helper import act, ask, come, dispel, effect, last, leave, speed, tick, wait
+from tests.helper import (
+    act, ask, book, come, dispel, effect, last, leave, look, push, speed, tick, time, wait, when)
 
 
 class Come(unittest.TestCase):
@@ -79,7 +80,8 @@ class Leave(unittest.TestCase):
 
 class NoSuchActor(unittest.TestCase):
     def calls_for(self, number):
-        return [leave(number), act(number, 1), effect(number, 1, 1), dispel(number), speed(number, 1)]
+        return [leave(number), act(number, 1), effect(number, 1, 1), dispel(number), speed(number, 1),
+                push(number, 1), look(number), when(number), book(number)]
 
     def test_never_given(self):
         for number in (2, 3, 16, 17, 399, 400):
@@ -100,7 +102,7 @@ class NoSuchActor(unittest.TestCase):
 
     def test_refusals_change_nothing(self):
         before = [come(3, -20), come(4, -30), leave(1), come(2, -9)]
-        behind = [tick(2), wait(), act(3, 7), come(9, -9), wait()]
+        behind = [tick(2), wait(), act(3, 7), come(9, -9), wait(), time(), look(2), look(3), book(2), book(3)]
         plain = ask(*before, *behind)
         for number in (1, 4):
             for call in self.calls_for(number):

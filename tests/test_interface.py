@@ -7,11 +7,14 @@ import unittest
 
 import energyturns.dungeon
 from energyturns.dungeon import answers
-from tests.helper import act, ask, come, dispel, effect, flat, leave, speed, tick, wait
+from tests.helper import (
+    act, ask, book, come, dispel, effect, flat, leave, look, push, queue, speed, split, tick, time, turns, wait, when)
 
 LINE = flat([
     come(30, -60), come(10, -60), effect(1, -5, 3), wait(), act(1, 60), act(2, 9), tick(4), speed(2, 40), dispel(1),
-    come(0, 0), wait(), act(2, 100), leave(2), leave(2), tick(1000000), act(1, 1000000), wait(),
+    come(0, 0), wait(), act(2, 100), push(1, 7), queue(), look(1), when(2), turns(5, [3, 900]), turns(5, [3, 0]),
+    turns(5, []), book(2), time(), leave(2), leave(2), tick(1000000), act(1, 1000000), effect(1, 4, 90), look(1),
+    turns(100, [1000000]), wait(), time(),
 ])
 
 
@@ -29,6 +32,26 @@ class Form(unittest.TestCase):
     def test_how_many_numbers_stand_before_each_answer(self):
         calls = [0, 5, -10, 0, 9, -1, 3, 1, 2, 1, 2, 2, 1, 6, 1, 6, 1001]
         self.assertEqual(answers(calls), [2, 0, 1, 2, 0, 2, 3, 0, 1, 2, 1, 0, 1, -3, 3, 0, 1, 1, 2, 0, 5, 1, -1])
+
+    def test_a_row_stands_behind_how_many_numbers_it_has(self):
+        calls = [0, 5, -10, 0, 9, -1, 12, 2, 2, 30, 20, 12, 1, 0, 12, 1, 3, 1, 1, 1, 12, 1, 1, 0, 14]
+        self.assertEqual(answers(calls), [2, 0, 1, 2, 0, 2, 5, 0, 2, 1, 1, 2, 1, -7, 1, -7, 1, -1, 5, 0, 0, 2, 2, 0])
+
+    def test_an_answer_of_nothing_more_is_its_zero_alone(self):
+        self.assertEqual(answers([9, 12, 5, 0, 9]), [1, 0, 1, 0, 1, 0])
+
+    def test_a_row_of_a_hundred(self):
+        self.assertEqual(answers([12, 1, 100] + [7] * 100 + [9]), [1, -7, 1, 0])
+        self.assertEqual(answers([12, 1, 100] + [0] * 100 + [9]), [1, -1, 1, 0])
+
+    def test_the_longest_list(self):
+        calls = [12, 1, 100] + [7] * 100
+        line = calls * 155 + [14] * 35
+        self.assertEqual(len(line), 16000)
+        self.assertEqual(split(answers(line)), [[-7]] * 155 + [[0, 0, 0, 0, 0]] * 35)
+
+    def test_numbers_like_a_calls_place_within_a_row(self):
+        self.assertEqual(answers([0, 1, -1, 12, 1, 1, 12, 14]), [2, 0, 1, 3, 0, 1, 1, 5, 0, 0, 1, 1, 0])
 
     def test_a_single_call(self):
         self.assertEqual(answers([3]), [1, -3])

@@ -118,6 +118,57 @@ class Code(unittest.TestCase):
                 if isinstance(node, ast.arguments):
                     self.assertEqual([node.vararg, node.kwarg, node.kwonlyargs, node.posonlyargs], [None, None, [], []])
 
+    def test_statements_are_plain(self):
+        for name, tree in trees():
+            for node in ast.walk(tree):
+                with self.subTest(file=name, line=getattr(node, "lineno", 0)):
+                    if isinstance(node, ast.Assign):
+                        self.assertEqual(len(node.targets), 1)
+                    if isinstance(node, (ast.For, ast.While)):
+                        self.assertEqual(node.orelse, [])
+                    if isinstance(node, ast.Try):
+                        self.assertEqual(node.finalbody, [])
+                    if isinstance(node, ast.ListComp):
+                        self.assertEqual(len(node.generators), 1)
+                        self.assertLessEqual(len(node.generators[0].ifs), 1)
+                    if isinstance(node, ast.Compare) and isinstance(node.ops[0], (ast.Is, ast.IsNot)):
+                        self.assertIsInstance(node.comparators[0], ast.Constant)
+                        self.assertIn(node.comparators[0].value, (None, True, False))
+
+    def test_the_top_of_a_file_holds_plain_values_once(self):
+        for name, tree in trees():
+            bound = bound_names(ast.Module([node for node in tree.body if isinstance(node, ast.Assign)], []))
+            bound += [node.name for node in tree.body if isinstance(node, (ast.FunctionDef, ast.ClassDef))]
+            with self.subTest(file=name):
+                self.assertEqual(sorted(set(bound)), sorted(bound))
+            for node in tree.body:
+                if isinstance(node, ast.Assign):
+                    inner = [part for part in ast.walk(node.value) if part is not node.value]
+                    with self.subTest(file=name, line=node.lineno):
+                        self.assertEqual([part for part in inner if isinstance(part, (ast.List, ast.Dict))], [])
+                        above = [part.name for part in tree.body
+                                 if isinstance(part, ast.FunctionDef) and part.lineno < node.lineno]
+                        self.assertEqual([part.id for part in ast.walk(node.value)
+                                          if isinstance(part, ast.Name) and part.id not in above], [])
+
+    def test_no_two_files_draw_from_one_another(self):
+        drawn = {}
+        for name, tree in trees():
+            drawn["energyturns." + name[:-3]] = [node.module for node in tree.body if isinstance(node, ast.ImportFrom)]
+        while drawn:
+            free = [name for name in drawn if not any(other in drawn for other in drawn[name])]
+            self.assertTrue(free, f"these draw from one another: {sorted(drawn)}")
+            drawn = {name: drawn[name] for name in drawn if name not in free}
+
+    def test_no_parameter_and_no_local_is_called_like_an_import(self):
+        for name, tree in trees():
+            drawn = [alias.name for node in tree.body if isinstance(node, ast.ImportFrom) for alias in node.names]
+            names = [node for node in ast.walk(tree) if isinstance(node, ast.Name)]
+            inner = [node.id for node in names if isinstance(node.ctx, ast.Store)]
+            inner += [node.arg for node in ast.walk(tree) if isinstance(node, ast.arg)]
+            with self.subTest(file=name):
+                self.assertEqual([one for one in inner if one in drawn], [])
+
     def test_methods_and_values_do_not_share_a_name(self):
         methods, values, called = [], [], []
         for name, tree in trees():
